@@ -89,7 +89,7 @@ func late(a []api.Vertex, b span) {
 func TestSpoiltPaths(t *testing.T) {
 	r := rand.New(rand.NewSource(6))
 	s := drawn()
-	for range 1500 {
+	for range 10000 {
 		a := someTree(r)
 		i, j := r.Intn(10)-1, r.Intn(10)-1
 		fresh := someNumbers(r)
