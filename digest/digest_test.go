@@ -105,18 +105,21 @@ func wantNoParents(t *testing.T, what string, s *term.Store, a []api.Vertex, i i
 // P5.1
 
 func TestNumber(t *testing.T) {
-	for n, want := range map[int]string{
-		0: "0", 1: "1", 9: "9", 10: "10", 105: "105", 31: "31", api.MaxNumber: "1099511627776",
-		-1: "-1", -12: "-12", -100: "-100",
-		math.MaxInt: "9223372036854775807", math.MinInt: "-9223372036854775808",
+	for _, c := range []struct {
+		n    int
+		want string
+	}{
+		{0, "0"}, {1, "1"}, {9, "9"}, {10, "10"}, {105, "105"}, {31, "31"}, {api.MaxNumber, "1099511627776"},
+		{-1, "-1"}, {-12, "-12"}, {-100, "-100"},
+		{math.MaxInt, "9223372036854775807"}, {math.MinInt, "-9223372036854775808"},
 	} {
 		s := term.New()
-		got := digest.Number(s, n)
-		if node, ok := s.Get(got); !ok || node != (api.Node{Kind: api.Text, Label: want}) {
-			t.Errorf("Number(%d): %v", n, node)
+		got := digest.Number(s, c.n)
+		if node, ok := s.Get(got); !ok || node != (api.Node{Kind: api.Text, Label: c.want}) {
+			t.Errorf("Number(%d): %v", c.n, node)
 		}
-		if digest.Number(s, n) != got || s.Len() != 1 {
-			t.Errorf("Number(%d) again: %d, %d terms", n, digest.Number(s, n), s.Len())
+		if digest.Number(s, c.n) != got || s.Len() != 1 {
+			t.Errorf("Number(%d) again: %d, %d terms", c.n, digest.Number(s, c.n), s.Len())
 		}
 	}
 }
@@ -210,29 +213,32 @@ func TestHashOfEachPlace(t *testing.T) {
 func TestHashHangsOnEachPart(t *testing.T) {
 	s := drawn()
 	base := mixed()
-	for name, change := range map[string]func(a []api.Vertex){
-		"the leaf's Key":      func(a []api.Vertex) { a[4].Key = 200 },
-		"the leaf's Client":   func(a []api.Vertex) { a[4].Client++ },
-		"the leaf's Sig":      func(a []api.Vertex) { a[4].Sig = 200 },
-		"the leaf's Hash":     func(a []api.Vertex) { a[4].Hash = 200 },
-		"no leaf":             func(a []api.Vertex) { a[4] = blank() },
-		"Key and Sig swapped": func(a []api.Vertex) { a[4].Key, a[4].Sig = a[4].Sig, a[4].Key },
-		"the parent's Key":    func(a []api.Vertex) { a[5].Key = 200 },
-		"the parent's Hash":   func(a []api.Vertex) { a[5].Hash = 200 },
-		"the parent's Late":   func(a []api.Vertex) { a[5].Late = []int{3} },
-		"no parent":           func(a []api.Vertex) { a[5] = blank() },
-		"children swapped":    func(a []api.Vertex) { a[4], a[6] = a[6], a[4] },
+	for _, c := range []struct {
+		name   string
+		change func(a []api.Vertex)
+	}{
+		{"the leaf's Key", func(a []api.Vertex) { a[4].Key = 200 }},
+		{"the leaf's Client", func(a []api.Vertex) { a[4].Client++ }},
+		{"the leaf's Sig", func(a []api.Vertex) { a[4].Sig = 200 }},
+		{"the leaf's Hash", func(a []api.Vertex) { a[4].Hash = 200 }},
+		{"no leaf", func(a []api.Vertex) { a[4] = blank() }},
+		{"Key and Sig swapped", func(a []api.Vertex) { a[4].Key, a[4].Sig = a[4].Sig, a[4].Key }},
+		{"the parent's Key", func(a []api.Vertex) { a[5].Key = 200 }},
+		{"the parent's Hash", func(a []api.Vertex) { a[5].Hash = 200 }},
+		{"the parent's Late", func(a []api.Vertex) { a[5].Late = []int{3} }},
+		{"no parent", func(a []api.Vertex) { a[5] = blank() }},
+		{"children swapped", func(a []api.Vertex) { a[4], a[6] = a[6], a[4] }},
 	} {
 		a := slices.Clone(base)
-		change(a)
+		c.change(a)
 		for _, x := range []int{5, 3, 7} {
 			if digest.Hash(s, a, x) == digest.Hash(s, base, x) {
-				t.Errorf("%s: the hash of %d stays", name, x)
+				t.Errorf("%s: the hash of %d stays", c.name, x)
 			}
 		}
 		for _, x := range []int{0, 1, 2, 11, 8, 14} {
 			if digest.Hash(s, a, x) != digest.Hash(s, base, x) {
-				t.Errorf("%s: the hash of %d changes", name, x)
+				t.Errorf("%s: the hash of %d changes", c.name, x)
 			}
 		}
 	}

@@ -82,8 +82,8 @@ func (m model) below(y int) []int {
 // common is the place of the lowest level that has both below it.
 func (m model) common(x, z int) int {
 	best := m.root
-	for y, level := range m.level {
-		if b := m.below(y); level < m.level[best] && slices.Contains(b, x) && slices.Contains(b, z) {
+	for y := range 2*m.n - 1 {
+		if b := m.below(y); m.level[y] < m.level[best] && slices.Contains(b, x) && slices.Contains(b, z) {
 			best = y
 		}
 	}
@@ -110,14 +110,21 @@ func (a answer) nothing() bool {
 	return a.a == 0 && a.b == 0 && len(a.list) == 0 && a.err == api.ErrIndex
 }
 
-// calls are all that take places and answer an error.
-var calls = map[string]func(x, n int) answer{
-	"Parent":   func(x, n int) answer { p, e := heap.Parent(x, n); return answer{a: p, err: e} },
-	"Sibling":  func(x, n int) answer { p, e := heap.Sibling(x, n); return answer{a: p, err: e} },
-	"Children": func(x, n int) answer { l, r, e := heap.Children(x, n); return answer{a: l, b: r, err: e} },
-	"Path":     func(x, n int) answer { p, e := heap.Path(x, n); return answer{list: p, err: e} },
-	"Copath":   func(x, n int) answer { p, e := heap.Copath(x, n); return answer{list: p, err: e} },
+// call is one that takes a place and answers an error.
+type call struct {
+	name string
+	of   func(x, n int) answer
 }
+
+var (
+	callParent   = call{"Parent", func(x, n int) answer { p, e := heap.Parent(x, n); return answer{a: p, err: e} }}
+	callSibling  = call{"Sibling", func(x, n int) answer { p, e := heap.Sibling(x, n); return answer{a: p, err: e} }}
+	callChildren = call{"Children", func(x, n int) answer { l, r, e := heap.Children(x, n); return answer{a: l, b: r, err: e} }}
+	callPath     = call{"Path", func(x, n int) answer { p, e := heap.Path(x, n); return answer{list: p, err: e} }}
+	callCopath   = call{"Copath", func(x, n int) answer { p, e := heap.Copath(x, n); return answer{list: p, err: e} }}
+
+	calls = []call{callParent, callSibling, callChildren, callPath, callCopath}
+)
 
 // P3.1
 
@@ -143,9 +150,9 @@ func TestWrongSizeIsErrIndex(t *testing.T) {
 			t.Errorf("Root(%d): %d, %d", n, r, e)
 		}
 		for _, x := range []int{-1, 0, 1, 2, 3, n - 1, n, math.MaxInt} {
-			for name, call := range calls {
-				if a := call(x, n); !a.nothing() {
-					t.Errorf("%s(%d, %d): %v", name, x, n, a)
+			for _, c := range calls {
+				if a := c.of(x, n); !a.nothing() {
+					t.Errorf("%s(%d, %d): %v", c.name, x, n, a)
 				}
 			}
 			if c, e := heap.Common(x, 0, n); c != 0 || e != api.ErrIndex {
@@ -161,9 +168,9 @@ func TestWrongSizeIsErrIndex(t *testing.T) {
 func TestNoPlaceIsErrIndex(t *testing.T) {
 	for _, n := range rightSizes {
 		for _, x := range noPlaces(n) {
-			for name, call := range calls {
-				if a := call(x, n); !a.nothing() {
-					t.Errorf("%s(%d, %d): %v", name, x, n, a)
+			for _, c := range calls {
+				if a := c.of(x, n); !a.nothing() {
+					t.Errorf("%s(%d, %d): %v", c.name, x, n, a)
 				}
 			}
 			for y := range 2*n - 1 {
@@ -181,9 +188,9 @@ func TestNoPlaceIsErrIndex(t *testing.T) {
 // P3.2
 
 func TestRoot(t *testing.T) {
-	for n, want := range map[int]int{1: 0, 2: 1, 4: 3, 8: 7, 16: 15, 32: 31} {
-		if r, e := heap.Root(n); r != want || e != api.OK {
-			t.Errorf("Root(%d): %d, %d, not %d", n, r, e, want)
+	for _, c := range []struct{ n, want int }{{1, 0}, {2, 1}, {4, 3}, {8, 7}, {16, 15}, {32, 31}} {
+		if r, e := heap.Root(c.n); r != c.want || e != api.OK {
+			t.Errorf("Root(%d): %d, %d, not %d", c.n, r, e, c.want)
 		}
 	}
 }
@@ -195,10 +202,12 @@ func TestLevel(t *testing.T) {
 			t.Errorf("Level(%d): %d, not %d", x, heap.Level(x), m.level[x])
 		}
 	}
-	for x, want := range map[int]int{-1: 0, -2: 0, -3: 0, -1 << 40: 0, math.MinInt: 0, math.MinInt + 1: 0,
-		63: 6, 64: 0, 95: 5, 127: 7, 1<<40 - 1: 40, 1 << 40: 0, math.MaxInt: 63, math.MaxInt - 1: 0} {
-		if heap.Level(x) != want {
-			t.Errorf("Level(%d): %d, not %d", x, heap.Level(x), want)
+	for _, c := range []struct{ x, want int }{
+		{-1, 0}, {-2, 0}, {-3, 0}, {-1 << 40, 0}, {math.MinInt, 0}, {math.MinInt + 1, 0},
+		{63, 6}, {64, 0}, {95, 5}, {127, 7}, {1<<40 - 1, 40}, {1 << 40, 0}, {math.MaxInt, 63}, {math.MaxInt - 1, 0},
+	} {
+		if heap.Level(c.x) != c.want {
+			t.Errorf("Level(%d): %d, not %d", c.x, heap.Level(c.x), c.want)
 		}
 	}
 }
@@ -210,7 +219,7 @@ func TestParentAndSibling(t *testing.T) {
 			t.Fatalf("the model of %d leaves has %d places", n, len(m.level))
 		}
 		for x := range 2*n - 1 {
-			parent, sibling := calls["Parent"](x, n), calls["Sibling"](x, n)
+			parent, sibling := callParent.of(x, n), callSibling.of(x, n)
 			if x == m.root {
 				if !parent.nothing() || !sibling.nothing() {
 					t.Errorf("of the root %d of %d: %v, %v", x, n, parent, sibling)
@@ -231,7 +240,7 @@ func TestChildren(t *testing.T) {
 	for _, n := range rightSizes {
 		m := build(n)
 		for x := range 2*n - 1 {
-			a := calls["Children"](x, n)
+			a := callChildren.of(x, n)
 			if x%2 == 0 {
 				if !a.nothing() {
 					t.Errorf("Children(%d, %d), a leaf: %v", x, n, a)
@@ -265,15 +274,15 @@ func TestPathAndCopath(t *testing.T) {
 }
 
 func TestPathsAreNewMemory(t *testing.T) {
-	for _, name := range []string{"Path", "Copath"} {
-		one, two := calls[name](0, 8).list, calls[name](0, 8).list
+	for _, c := range []call{callPath, callCopath} {
+		one, two := c.of(0, 8).list, c.of(0, 8).list
 		kept := slices.Clone(two)
 		one = one[:cap(one)]
 		for i := range one {
 			one[i] = -9
 		}
-		if !slices.Equal(two, kept) || !slices.Equal(calls[name](0, 8).list, kept) {
-			t.Errorf("%s answers memory that it answered before", name)
+		if !slices.Equal(two, kept) || !slices.Equal(c.of(0, 8).list, kept) {
+			t.Errorf("%s answers memory that it answered before", c.name)
 		}
 	}
 }
@@ -332,14 +341,14 @@ func TestTreeOfOneLeaf(t *testing.T) {
 	if r, e := heap.Root(1); r != 0 || e != api.OK {
 		t.Errorf("Root: %d, %d", r, e)
 	}
-	for _, name := range []string{"Parent", "Sibling", "Children"} {
-		if a := calls[name](0, 1); !a.nothing() {
-			t.Errorf("%s: %v", name, a)
+	for _, c := range []call{callParent, callSibling, callChildren} {
+		if a := c.of(0, 1); !a.nothing() {
+			t.Errorf("%s: %v", c.name, a)
 		}
 	}
-	for _, name := range []string{"Path", "Copath"} {
-		if a := calls[name](0, 1); len(a.list) != 0 || a.err != api.OK {
-			t.Errorf("%s: %v", name, a)
+	for _, c := range []call{callPath, callCopath} {
+		if a := c.of(0, 1); len(a.list) != 0 || a.err != api.OK {
+			t.Errorf("%s: %v", c.name, a)
 		}
 	}
 	if c, e := heap.Common(0, 0, 1); c != 0 || e != api.OK {
@@ -351,17 +360,20 @@ func TestTreeOfOneLeaf(t *testing.T) {
 }
 
 func TestTreeOfMostLeaves(t *testing.T) {
-	for x, want := range map[int][2][]int{
-		0:  {{1, 3, 7, 15, 31}, {2, 5, 11, 23, 47}},
-		62: {{61, 59, 55, 47, 31}, {60, 57, 51, 39, 15}},
-		33: {{35, 39, 47, 31}, {37, 43, 55, 15}},
-		31: {{}, {}},
+	for _, c := range []struct {
+		x            int
+		path, copath []int
+	}{
+		{0, []int{1, 3, 7, 15, 31}, []int{2, 5, 11, 23, 47}},
+		{62, []int{61, 59, 55, 47, 31}, []int{60, 57, 51, 39, 15}},
+		{33, []int{35, 39, 47, 31}, []int{37, 43, 55, 15}},
+		{31, nil, nil},
 	} {
-		if a := calls["Path"](x, 32); !slices.Equal(a.list, want[0]) || a.err != api.OK {
-			t.Errorf("Path(%d): %v", x, a)
+		if a := callPath.of(c.x, 32); !slices.Equal(a.list, c.path) || a.err != api.OK {
+			t.Errorf("Path(%d): %v", c.x, a)
 		}
-		if a := calls["Copath"](x, 32); !slices.Equal(a.list, want[1]) || a.err != api.OK {
-			t.Errorf("Copath(%d): %v", x, a)
+		if a := callCopath.of(c.x, 32); !slices.Equal(a.list, c.copath) || a.err != api.OK {
+			t.Errorf("Copath(%d): %v", c.x, a)
 		}
 	}
 	if c, e := heap.Common(0, 31, 32); c != 31 || e != api.OK {
@@ -379,18 +391,21 @@ func TestExamples(t *testing.T) {
 	if r, e := heap.Root(4); r != 3 || e != api.OK {
 		t.Errorf("Root: %d, %d", r, e)
 	}
-	for x, want := range map[int]answer{0: {a: 1}, 1: {a: 3}, 3: {err: api.ErrIndex}, 7: {err: api.ErrIndex}} {
-		if a := calls["Parent"](x, 4); a.a != want.a || a.err != want.err {
-			t.Errorf("Parent(%d): %v", x, a)
+	for _, c := range []struct {
+		x    int
+		want answer
+	}{{0, answer{a: 1}}, {1, answer{a: 3}}, {3, answer{err: api.ErrIndex}}, {7, answer{err: api.ErrIndex}}} {
+		if a := callParent.of(c.x, 4); a.a != c.want.a || a.err != c.want.err {
+			t.Errorf("Parent(%d): %v", c.x, a)
 		}
 	}
-	if a := calls["Path"](0, 4); !slices.Equal(a.list, []int{1, 3}) || a.err != api.OK {
+	if a := callPath.of(0, 4); !slices.Equal(a.list, []int{1, 3}) || a.err != api.OK {
 		t.Errorf("Path: %v", a)
 	}
-	if a := calls["Copath"](0, 4); !slices.Equal(a.list, []int{2, 5}) || a.err != api.OK {
+	if a := callCopath.of(0, 4); !slices.Equal(a.list, []int{2, 5}) || a.err != api.OK {
 		t.Errorf("Copath: %v", a)
 	}
-	for j, want := range map[int]int{0: 0, 1: 1, 2: 3, 3: 3} {
+	for j, want := range []int{0, 1, 3, 3} {
 		if c, e := heap.Common(0, j, 4); c != want || e != api.OK {
 			t.Errorf("Common(0, %d): %d, %d", j, c, e)
 		}

@@ -494,13 +494,18 @@ func TestApplyOfNoLeaf(t *testing.T) {
 	wantNone(t, "ErrLeaf is named first", x, e, api.ErrLeaf)
 }
 
+type namedPath struct {
+	name string
+	p    kem.Path
+}
+
 // spoilt are a path's copies with one part changed, so that it doesn't fit the tree.
-func spoilt(p kem.Path) map[string]kem.Path {
-	all := map[string]kem.Path{}
+func spoilt(p kem.Path) []namedPath {
+	var all []namedPath
 	change := func(name string, f func(c *kem.Path)) {
 		c := copyOf(p)
 		f(&c)
-		all[name] = c
+		all = append(all, namedPath{name, c})
 	}
 	change("nothing", func(c *kem.Path) { *c = kem.Path{} })
 	change("a key too few", func(c *kem.Path) { c.Keys = c.Keys[1:] })
@@ -535,12 +540,12 @@ func copyOf(p kem.Path) kem.Path {
 func TestApplyOfPathsThatDoNotFit(t *testing.T) {
 	s := drawn()
 	a := mixed()
-	for name, p := range spoilt(made(t, s, a, 2).Path) {
+	for _, c := range spoilt(made(t, s, a, 2).Path) {
 		for _, j := range []int{0, 3, 4, 7} {
-			x, e := kem.Apply(s, a, j, knownTo(a, j), 2, p, nil)
-			wantNone(t, name, x, e, api.ErrPath)
-			x, e = kem.Apply(s, a, j, nil, 2, p, nil)
-			wantNone(t, name+": ErrPath is named first", x, e, api.ErrPath)
+			x, e := kem.Apply(s, a, j, knownTo(a, j), 2, c.p, nil)
+			wantNone(t, c.name, x, e, api.ErrPath)
+			x, e = kem.Apply(s, a, j, nil, 2, c.p, nil)
+			wantNone(t, c.name+": ErrPath is named first", x, e, api.ErrPath)
 		}
 	}
 	p := made(t, s, a, 2).Path

@@ -7,6 +7,7 @@ import (
 
 	"conclave/api"
 	"conclave/kem"
+	"conclave/term"
 )
 
 // What is handed in stays as it was, its spare room too, and shares no memory with what is answered.
@@ -51,16 +52,19 @@ func roomyPath(p kem.Path) kem.Path {
 
 // given is all that is handed in to a call, each list with spare room.
 type given struct {
+	s     *term.Store
 	a     []api.Vertex
 	list  []kem.Secret
 	p     kem.Path
 	fresh []int
 }
 
+// someGiven has a store of its own, in which its path was made: what a call does with it hangs on no call ahead.
 func someGiven(t *testing.T) given {
+	s := drawn()
 	a := mixed()
 	fresh := []int{6, 3}
-	return given{roomyTree(a), roomySecrets(everySecret(a)), roomyPath(made(t, drawn(), a, 2, fresh...).Path), roomy(fresh)}
+	return given{s, roomyTree(a), roomySecrets(everySecret(a)), roomyPath(made(t, s, a, 2, fresh...).Path), roomy(fresh)}
 }
 
 // everything is a copy of what is given, with all spare room.
@@ -106,37 +110,39 @@ func scribbleSecrets(list []kem.Secret) {
 }
 
 func TestCallsShareNoMemory(t *testing.T) {
-	s := drawn()
 	known := roomySecrets(knownTo(mixed(), 4))
-	for name, call := range map[string]func(g given) kem.Made{
-		"Make":  func(g given) kem.Made { m, _ := kem.Make(s, g.a, 2, newLeaf, start, g.fresh); return m },
-		"Apply": func(g given) kem.Made { m, _ := kem.Apply(s, g.a, 4, known, 2, g.p, g.fresh); return m },
-		"Trim":  func(g given) kem.Made { return kem.Made{Secrets: kem.Trim(g.a, 3, g.list)} },
-		"Climb": func(g given) kem.Made { return kem.Made{Secrets: kem.Climb(s, g.a, 2, 3, start)} },
+	for _, c := range []struct {
+		name string
+		call func(g given) kem.Made
+	}{
+		{"Make", func(g given) kem.Made { m, _ := kem.Make(g.s, g.a, 2, newLeaf, start, g.fresh); return m }},
+		{"Apply", func(g given) kem.Made { m, _ := kem.Apply(g.s, g.a, 4, known, 2, g.p, g.fresh); return m }},
+		{"Trim", func(g given) kem.Made { return kem.Made{Secrets: kem.Trim(g.a, 3, g.list)} }},
+		{"Climb", func(g given) kem.Made { return kem.Made{Secrets: kem.Climb(g.s, g.a, 2, 3, start)} }},
 	} {
 		g := someGiven(t)
 		kept := g.everything()
-		one, again := call(g), call(g)
+		one, again := c.call(g), c.call(g)
 		if len(one.Secrets) == 0 {
-			t.Fatalf("%s: nothing", name)
+			t.Fatalf("%s: nothing", c.name)
 		}
 		scribble(one)
 		if !reflect.DeepEqual(g.everything(), kept) {
-			t.Errorf("%s changes what is handed in: %v", name, g.everything())
+			t.Errorf("%s changes what is handed in: %v", c.name, g.everything())
 		}
-		if third := call(g); !sameMade(again, third) {
-			t.Errorf("%s answers memory that it answered before: %v", name, again)
+		if third := c.call(g); !sameMade(again, third) {
+			t.Errorf("%s answers memory that it answered before: %v", c.name, again)
 		}
 		if !reflect.DeepEqual(known[:cap(known)], roomySecrets(knownTo(mixed(), 4))[:cap(known)]) {
-			t.Errorf("%s changes the secrets that are handed in: %v", name, known[:cap(known)])
+			t.Errorf("%s changes the secrets that are handed in: %v", c.name, known[:cap(known)])
 		}
 	}
 }
 
 // No two lists of one answer lie in one memory, so that a list may grow without another one's harm.
 func TestListsOfAnAnswerShareNoMemory(t *testing.T) {
-	s := drawn()
 	g := someGiven(t)
+	s := g.s
 	m := made(t, s, g.a, 2, g.fresh...)
 	x, e := kem.Apply(s, g.a, 4, knownTo(g.a, 4), 2, g.p, g.fresh)
 	if e != api.OK {
@@ -161,8 +167,8 @@ func TestListsOfAnAnswerShareNoMemory(t *testing.T) {
 
 // A call that answers an error changes nothing either.
 func TestErrorsChangeNothing(t *testing.T) {
-	s := drawn()
 	g := someGiven(t)
+	s := g.s
 	kept := g.everything()
 	kem.Make(s, g.a, 1, newLeaf, start, g.fresh)
 	kem.Make(s, g.a, 2, 0, start, g.fresh)

@@ -228,8 +228,8 @@ func (w *world) update(i int) {
 }
 
 func (w *world) trim() {
-	for j, list := range w.secrets {
-		w.secrets[j] = kem.Trim(w.a, j, list)
+	for _, j := range tree.Members(w.a) {
+		w.secrets[j] = kem.Trim(w.a, j, w.secrets[j])
 	}
 }
 

@@ -90,29 +90,32 @@ func TestCallsShareNoMemory(t *testing.T) {
 	keys, hashes := roomy([]int{71, 72, 73}), roomy([]int{81, 82, 83})
 	leaf := leafOf(9)
 	leaf.Late = roomy([]int{1, 2})
-	for name, call := range map[string]func(a []api.Vertex) []api.Vertex{
-		"New":    func([]api.Vertex) []api.Vertex { return tree.New(leaf) },
-		"Add":    func(a []api.Vertex) []api.Vertex { b, _, _ := tree.Add(a, leaf); return b },
-		"Update": func(a []api.Vertex) []api.Vertex { b, _ := tree.Update(a, 6, leaf); return b },
-		"Remove": func(a []api.Vertex) []api.Vertex { b, _ := tree.Remove(a, 0); return b },
-		"halve":  func(a []api.Vertex) []api.Vertex { b, _ := tree.Remove(a, 6); return b },
-		"Merge":  func(a []api.Vertex) []api.Vertex { b, _ := tree.Merge(a, 0, leaf, keys, hashes); return b },
+	for _, c := range []struct {
+		name string
+		call func(a []api.Vertex) []api.Vertex
+	}{
+		{"New", func([]api.Vertex) []api.Vertex { return tree.New(leaf) }},
+		{"Add", func(a []api.Vertex) []api.Vertex { b, _, _ := tree.Add(a, leaf); return b }},
+		{"Update", func(a []api.Vertex) []api.Vertex { b, _ := tree.Update(a, 6, leaf); return b }},
+		{"Remove", func(a []api.Vertex) []api.Vertex { b, _ := tree.Remove(a, 0); return b }},
+		{"halve", func(a []api.Vertex) []api.Vertex { b, _ := tree.Remove(a, 6); return b }},
+		{"Merge", func(a []api.Vertex) []api.Vertex { b, _ := tree.Merge(a, 0, leaf, keys, hashes); return b }},
 	} {
 		a := roomyTree(lateTree())
 		kept := whole(a)
-		b := call(a)
+		b := c.call(a)
 		if len(b) == 0 {
-			t.Fatalf("%s: no tree", name)
+			t.Fatalf("%s: no tree", c.name)
 		}
-		again := call(a)
+		again := c.call(a)
 		keptAgain := whole(again)
-		unshared(t, name, b)
+		unshared(t, c.name, b)
 		scribble(b)
-		wantTree(t, name+" changes what is handed in", whole(a), kept)
-		wantTree(t, name+" answers memory that it answered before", whole(again), keptAgain)
-		wantList(t, name+", the leaf's Late", leaf.Late[:cap(leaf.Late)], 1, 2, mark, mark, mark, mark)
-		wantList(t, name+", the keys", keys[:cap(keys)], 71, 72, 73, mark, mark, mark, mark)
-		wantList(t, name+", the hashes", hashes[:cap(hashes)], 81, 82, 83, mark, mark, mark, mark)
+		wantTree(t, c.name+" changes what is handed in", whole(a), kept)
+		wantTree(t, c.name+" answers memory that it answered before", whole(again), keptAgain)
+		wantList(t, c.name+", the leaf's Late", leaf.Late[:cap(leaf.Late)], 1, 2, mark, mark, mark, mark)
+		wantList(t, c.name+", the keys", keys[:cap(keys)], 71, 72, 73, mark, mark, mark, mark)
+		wantList(t, c.name+", the hashes", hashes[:cap(hashes)], 81, 82, 83, mark, mark, mark, mark)
 	}
 }
 

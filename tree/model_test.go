@@ -19,17 +19,19 @@ func (s span) halves() (span, span) {
 	return span{s.lo, mid}, span{mid, s.hi}
 }
 
-// spans are all of a tree of n leaves, by their places.
-func spans(n int) map[int]span {
-	all := map[int]span{}
+// spans are all of a tree of n leaves, each at its place, as what is to the left stands ahead of it.
+func spans(n int) []span {
+	var all []span
 	var walk func(s span)
 	walk = func(s span) {
-		all[s.place()] = s
-		if !s.single() {
-			left, right := s.halves()
-			walk(left)
-			walk(right)
+		if s.single() {
+			all = append(all, s)
+			return
 		}
+		left, right := s.halves()
+		walk(left)
+		all = append(all, s)
+		walk(right)
 	}
 	walk(span{0, n})
 	return all

@@ -114,15 +114,18 @@ func TestCheckOfRightTrees(t *testing.T) {
 	emptyLate[0].Late, emptyLate[1].Late = []int{}, []int{}
 	dead := four()
 	dead[0], dead[2], dead[1] = blank(), blank(), parentOf(1)
-	for name, a := range map[string][]api.Vertex{
-		"of one leaf": {leafOf(0)}, "of one leaf of zeros": {{Full: true}},
-		"of two, the right one full": {blank(), blank(), leafOf(1)},
-		"of four":                    four(), "the last leaf alone": halfBlank, "any numbers": wild,
-		"all late": allLate, "Late empty, not nil": emptyLate, "a full parent above blank leaves": dead,
-		"all full": full(4), "of most": full(api.MaxLeaves),
+	for _, c := range []struct {
+		name string
+		tree []api.Vertex
+	}{
+		{"of one leaf", []api.Vertex{leafOf(0)}}, {"of one leaf of zeros", []api.Vertex{{Full: true}}},
+		{"of two, the right one full", []api.Vertex{blank(), blank(), leafOf(1)}},
+		{"of four", four()}, {"the last leaf alone", halfBlank}, {"any numbers", wild},
+		{"all late", allLate}, {"Late empty, not nil", emptyLate}, {"a full parent above blank leaves", dead},
+		{"all full", full(4)}, {"of most", full(api.MaxLeaves)},
 	} {
-		if !tree.Check(a) {
-			t.Errorf("%s: not right: %v", name, a)
+		if !tree.Check(c.tree) {
+			t.Errorf("%s: not right: %v", c.name, c.tree)
 		}
 	}
 }
@@ -149,52 +152,55 @@ func TestCheckOfOneFault(t *testing.T) {
 	if !tree.Check(base) {
 		t.Fatal("the tree to change isn't right")
 	}
-	for name, spoil := range map[string]func(a []api.Vertex){
-		"a blank leaf with a Key":          func(a []api.Vertex) { a[2].Key = 1 },
-		"a blank leaf with a Client":       func(a []api.Vertex) { a[2].Client = 1 },
-		"a blank leaf with a Sig":          func(a []api.Vertex) { a[2].Sig = -1 },
-		"a blank leaf with a Hash":         func(a []api.Vertex) { a[2].Hash = 1 },
-		"a blank leaf with a Late":         func(a []api.Vertex) { a[2].Late = []int{0} },
-		"a blank parent with a Key":        func(a []api.Vertex) { a[9].Key = -1 },
-		"a blank parent with a Client":     func(a []api.Vertex) { a[9].Client = 1 },
-		"a blank parent with a Sig":        func(a []api.Vertex) { a[9].Sig = 1 },
-		"a blank parent with a Hash":       func(a []api.Vertex) { a[9].Hash = 1 },
-		"a blank parent with a right Late": func(a []api.Vertex) { a[9].Late = []int{4} },
-		"a full leaf with itself late":     func(a []api.Vertex) { a[0].Late = []int{0} },
-		"the last leaf with a Late":        func(a []api.Vertex) { a[14].Late = []int{7} },
-		"a full parent with a Client":      func(a []api.Vertex) { a[5].Client = 1 },
-		"a full parent with a Sig":         func(a []api.Vertex) { a[13].Sig = -1 },
-		"the root with a Client":           func(a []api.Vertex) { a[7].Client = -1 },
-		"a Late that falls":                func(a []api.Vertex) { a[7].Late = []int{3, 0} },
-		"a Late that falls at its end":     func(a []api.Vertex) { a[7].Late = []int{0, 7, 3} },
-		"a Late with one twice":            func(a []api.Vertex) { a[7].Late = []int{0, 3, 3} },
-		"a Late with 0 twice":              func(a []api.Vertex) { a[7].Late = []int{0, 0} },
-		"a Late of a blank leaf":           func(a []api.Vertex) { a[7].Late = []int{1} },
-		"a Late of a blank leaf last":      func(a []api.Vertex) { a[7].Late = []int{0, 6} },
-		"a Late of a leaf elsewhere":       func(a []api.Vertex) { a[11].Late = []int{3} },
-		"a Late of a leaf beside":          func(a []api.Vertex) { a[1].Late = []int{2} },
-		"a Late below 0":                   func(a []api.Vertex) { a[7].Late = []int{-1} },
-		"a Late below 0 ahead of others":   func(a []api.Vertex) { a[7].Late = []int{-4, 0} },
-		"a Late behind the last":           func(a []api.Vertex) { a[7].Late = []int{8} },
-		"a Late by its place":              func(a []api.Vertex) { a[7].Late = []int{0, 14} },
-		"a Late that wraps round":          func(a []api.Vertex) { a[7].Late = []int{math.MinInt} },
-		"a Late that wraps round, too":     func(a []api.Vertex) { a[7].Late = []int{math.MaxInt/2 + 1} },
-		"a late leaf that becomes blank":   func(a []api.Vertex) { a[10] = blank() },
-		"an empty right half": func(a []api.Vertex) {
+	for _, c := range []struct {
+		name  string
+		spoil func(a []api.Vertex)
+	}{
+		{"a blank leaf with a Key", func(a []api.Vertex) { a[2].Key = 1 }},
+		{"a blank leaf with a Client", func(a []api.Vertex) { a[2].Client = 1 }},
+		{"a blank leaf with a Sig", func(a []api.Vertex) { a[2].Sig = -1 }},
+		{"a blank leaf with a Hash", func(a []api.Vertex) { a[2].Hash = 1 }},
+		{"a blank leaf with a Late", func(a []api.Vertex) { a[2].Late = []int{0} }},
+		{"a blank parent with a Key", func(a []api.Vertex) { a[9].Key = -1 }},
+		{"a blank parent with a Client", func(a []api.Vertex) { a[9].Client = 1 }},
+		{"a blank parent with a Sig", func(a []api.Vertex) { a[9].Sig = 1 }},
+		{"a blank parent with a Hash", func(a []api.Vertex) { a[9].Hash = 1 }},
+		{"a blank parent with a right Late", func(a []api.Vertex) { a[9].Late = []int{4} }},
+		{"a full leaf with itself late", func(a []api.Vertex) { a[0].Late = []int{0} }},
+		{"the last leaf with a Late", func(a []api.Vertex) { a[14].Late = []int{7} }},
+		{"a full parent with a Client", func(a []api.Vertex) { a[5].Client = 1 }},
+		{"a full parent with a Sig", func(a []api.Vertex) { a[13].Sig = -1 }},
+		{"the root with a Client", func(a []api.Vertex) { a[7].Client = -1 }},
+		{"a Late that falls", func(a []api.Vertex) { a[7].Late = []int{3, 0} }},
+		{"a Late that falls at its end", func(a []api.Vertex) { a[7].Late = []int{0, 7, 3} }},
+		{"a Late with one twice", func(a []api.Vertex) { a[7].Late = []int{0, 3, 3} }},
+		{"a Late with 0 twice", func(a []api.Vertex) { a[7].Late = []int{0, 0} }},
+		{"a Late of a blank leaf", func(a []api.Vertex) { a[7].Late = []int{1} }},
+		{"a Late of a blank leaf last", func(a []api.Vertex) { a[7].Late = []int{0, 6} }},
+		{"a Late of a leaf elsewhere", func(a []api.Vertex) { a[11].Late = []int{3} }},
+		{"a Late of a leaf beside", func(a []api.Vertex) { a[1].Late = []int{2} }},
+		{"a Late below 0", func(a []api.Vertex) { a[7].Late = []int{-1} }},
+		{"a Late below 0 ahead of others", func(a []api.Vertex) { a[7].Late = []int{-4, 0} }},
+		{"a Late behind the last", func(a []api.Vertex) { a[7].Late = []int{8} }},
+		{"a Late by its place", func(a []api.Vertex) { a[7].Late = []int{0, 14} }},
+		{"a Late that wraps round", func(a []api.Vertex) { a[7].Late = []int{math.MinInt} }},
+		{"a Late that wraps round, too", func(a []api.Vertex) { a[7].Late = []int{math.MaxInt/2 + 1} }},
+		{"a late leaf that becomes blank", func(a []api.Vertex) { a[10] = blank() }},
+		{"an empty right half", func(a []api.Vertex) {
 			a[7].Late, a[11].Late = nil, nil
 			a[8], a[10], a[14] = blank(), blank(), blank()
-		},
-		"no full leaf": func(a []api.Vertex) {
+		}},
+		{"no full leaf", func(a []api.Vertex) {
 			a[7].Late, a[11].Late = nil, nil
 			for x := 0; x < len(a); x += 2 {
 				a[x] = blank()
 			}
-		},
+		}},
 	} {
 		a := deepCopy(base)
-		spoil(a)
+		c.spoil(a)
 		if tree.Check(a) {
-			t.Errorf("%s: right", name)
+			t.Errorf("%s: right", c.name)
 		}
 	}
 	if tree.Check([]api.Vertex{blank()}) || tree.Check([]api.Vertex{leafOf(0), blank(), blank()}) {
@@ -222,9 +228,9 @@ func TestLeavesMembersFind(t *testing.T) {
 	a[0], a[6], a[14] = blank(), blank(), blank()
 	a[4].Client, a[10].Client, a[12].Client = 7, 7, -7
 	wantList(t, "Members", tree.Members(a), 1, 2, 4, 5, 6)
-	for client, want := range map[int]int{2001: 1, 7: 2, -7: 6, 2004: 4} {
-		if i, ok := tree.Find(a, client); i != want || !ok {
-			t.Errorf("Find(%d): %d, %v, not %d", client, i, ok, want)
+	for _, c := range []struct{ client, want int }{{2001, 1}, {7, 2}, {-7, 6}, {2004, 4}} {
+		if i, ok := tree.Find(a, c.client); i != c.want || !ok {
+			t.Errorf("Find(%d): %d, %v, not %d", c.client, i, ok, c.want)
 		}
 	}
 	// 0 is the Client of what is blank and of the parents, and nobody's here.
@@ -247,12 +253,15 @@ func TestResolution(t *testing.T) {
 	a[5].Late = []int{3}
 	a[9], a[8], a[10] = blank(), blank(), blank()
 	a[11] = parentOf(11, 6, 7)
-	for x, want := range map[int][]int{
-		0: {0}, 1: {0}, 2: {}, 3: {0, 5, 6}, 4: {4}, 5: {5, 6}, 7: {0, 5, 6, 11, 12, 14},
-		8: {}, 9: {}, 10: {}, 11: {11, 12, 14}, 13: {13}, 14: {14},
-		-1: {}, -2: {}, 15: {}, 16: {}, 63: {}, math.MaxInt: {}, math.MinInt: {},
+	for _, c := range []struct {
+		x    int
+		want []int
+	}{
+		{0, []int{0}}, {1, []int{0}}, {2, nil}, {3, []int{0, 5, 6}}, {4, []int{4}}, {5, []int{5, 6}}, {7, []int{0, 5, 6, 11, 12, 14}},
+		{8, nil}, {9, nil}, {10, nil}, {11, []int{11, 12, 14}}, {13, []int{13}}, {14, []int{14}},
+		{-1, nil}, {-2, nil}, {15, nil}, {16, nil}, {63, nil}, {math.MaxInt, nil}, {math.MinInt, nil},
 	} {
-		wantList(t, "Resolution", tree.Resolution(a, x), want...)
+		wantList(t, "Resolution", tree.Resolution(a, c.x), c.want...)
 	}
 	a[11] = blank()
 	wantList(t, "a blank parent above a blank one and a full one", tree.Resolution(a, 11), 13)
@@ -413,8 +422,11 @@ func TestRemoveLeavesTheLeftHalf(t *testing.T) {
 func TestRemoveOfTheOnlyLeaf(t *testing.T) {
 	alone := make([]api.Vertex, 15)
 	alone[14] = leafOf(7)
-	for i, a := range map[int][]api.Vertex{0: tree.New(leafOf(0)), 1: {blank(), blank(), leafOf(1)}, 7: alone} {
-		b, e := tree.Remove(a, i)
+	for _, c := range []struct {
+		i    int
+		tree []api.Vertex
+	}{{0, tree.New(leafOf(0))}, {1, []api.Vertex{blank(), blank(), leafOf(1)}}, {7, alone}} {
+		b, e := tree.Remove(c.tree, c.i)
 		wantNone(t, "the only leaf", b, e, api.ErrLeaf)
 	}
 }
